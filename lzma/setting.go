@@ -4,6 +4,7 @@ import (
 	"math"
 
 	"garbler/api"
+	"garbler/packet"
 	"garbler/src"
 )
 
@@ -53,7 +54,7 @@ func Probs(p api.Lzma) int {
 	if !May(p) {
 		return 0
 	}
-	return ofPackets + ofLiterals(p)
+	return packet.OfChances + packet.OfLiterals(p)
 }
 
 // mayBits: whether a setting may be, but for its dictionary.
@@ -62,6 +63,3 @@ func mayBits(p api.Lzma) bool {
 }
 
 func within(n, most int) bool { return n >= 0 && n <= most }
-
-// ofLiterals: how many probabilities literals have.
-func ofLiterals(p api.Lzma) int { return ofLiteral << (p.Lc + p.Lp) }
