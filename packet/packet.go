@@ -1,4 +1,4 @@
-// Package packet holds what the decoder and the coder of LZMA's packets (layers 8 and 9) have alike: probabilities, states, and elder distances.
+// Package packet holds what the decoder and the coder of LZMA's packets (layers 8 and 9) have alike: probabilities, states, and elder distances. What finds packets (layer 10) has the distances, too.
 package packet
 
 import "math"
