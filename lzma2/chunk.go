@@ -2,22 +2,12 @@ package lzma2
 
 import (
 	"garbler/api"
+	"garbler/chunk"
 	"garbler/lzma"
 	"garbler/rdec"
 )
 
-// The first bytes of chunks.
-const (
-	end        = 0
-	plainAnew  = 1 // plain, and the window is emptied ahead
-	plain      = 2
-	packedFrom = 128
-
-	aboveBits = 5 // of a packed chunk's first byte: the greatest ones of how many bytes it tells
-	countBits = 16
-
-	mostLcLp = 4 // Lc and Lp together
-)
+const countBits = 16 // of a packed chunk's count of bytes, but for those above them in its first byte
 
 // flags say what is needed, or brought, anew.
 type flags byte
@@ -51,15 +41,15 @@ func (d *Decoder) chunk() {
 	c := d.read()
 	switch {
 	case d.bad():
-	case c == end:
+	case c == chunk.End:
 		d.ended = true
-	case c == plainAnew:
+	case c == chunk.PlainAnew:
 		d.packets.Empty()
 		d.needs = newSetting | newState
 		d.beginPlain()
-	case c == plain && d.needs&newWindow == 0:
+	case c == chunk.Plain && d.needs&newWindow == 0:
 		d.beginPlain()
-	case c >= packedFrom:
+	case c >= chunk.PackedFrom:
 		d.beginPacked(c)
 	default:
 		d.fail()
@@ -76,12 +66,12 @@ func (d *Decoder) beginPlain() {
 
 // beginPacked reads the rest of a packed chunk's head.
 func (d *Decoder) beginPacked(c byte) {
-	brought := brings[(c-packedFrom)>>aboveBits]
+	brought := brings[(c-chunk.PackedFrom)>>chunk.AboveBits]
 	if d.needs&^brought != 0 {
 		d.fail()
 		return
 	}
-	above := int(c) & (1<<aboveBits - 1)
+	above := int(c) & (1<<chunk.AboveBits - 1)
 	n := above<<countBits + d.count()
 	room := d.count()
 	if brought&newSetting != 0 {
@@ -115,7 +105,7 @@ func (d *Decoder) count() int {
 // readSetting reads a setting. It is bad, if it may not be here.
 func (d *Decoder) readSetting() api.Lzma {
 	p, code := lzma.Parse([]byte{d.read(), 0, 0, 0, 0}) // it says nothing of the dictionary
-	if code != api.OK || p.Lc+p.Lp > mostLcLp {
+	if code != api.OK || p.Lc+p.Lp > chunk.MostLcLp {
 		d.fail()
 		return api.Lzma{}
 	}
